@@ -1,0 +1,1 @@
+"""Fair shares and chance: players' jobs done by turns, and what they draw."""

@@ -1,0 +1,27 @@
+"""A list of calls in, a list of answers out."""
+
+from turnshares.calls import answer
+from turnshares.turns import Session
+
+# How many numbers stand behind the number of each call.
+LENGTHS = (3, 2, 1, 4, 1, 1, 1, 0)
+
+
+def end_of_call(calls, start):
+    call = calls[start]
+    if call >= len(LENGTHS):
+        raise NotImplementedError(f"call {call} is not built yet")
+    return start + 1 + LENGTHS[call]
+
+
+def answers(calls):
+    session = Session()
+    given = []
+    start = 0
+    while start < len(calls):
+        end = end_of_call(calls, start)
+        row = answer(session, calls[start], calls[start + 1:end])
+        given.append(len(row))
+        given.extend(row)
+        start = end
+    return given
