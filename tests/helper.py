@@ -39,6 +39,38 @@ def players():
     return (7,)
 
 
+def weigh(player, weight):
+    return (8, player, weight)
+
+
+def draw_of(tick_number=0, thing=0, count=0, sides=6):
+    return (9, tick_number, thing, count, sides)
+
+
+def raw_of(tick_number=0, thing=0, count=0):
+    return (10, tick_number, thing, count)
+
+
+def shuffle(tick_number=0, thing=0, n=5):
+    return (11, tick_number, thing, n)
+
+
+def pick(tick_number=0, thing=0, weights=(1,)):
+    return (12, tick_number, thing, len(weights), *weights)
+
+
+def bound(player):
+    return (13, player)
+
+
+def try_out(k=1):
+    return (14, k)
+
+
+def state():
+    return (15,)
+
+
 def split(row):
     """The answers one by one, without the counts ahead of them."""
     parts = []
@@ -57,6 +89,19 @@ def ask(*calls):
 
 def last(*calls):
     return ask(*calls)[-1]
+
+
+def everything():
+    """Calls that ask for all there is, then for what comes of it; players 1 to 9 are looked at."""
+    seen = [state(), players()] + [queue(number) for number in range(1, 10)]
+    return seen + [try_out(3), tick(2)] + seen + [raw_of(1, 2, 3)]
+
+
+def assert_refused(case, before, call, number):
+    """The call is answered with this refusal, and all is as it was."""
+    answered = ask(*before, call, *everything())[len(before):]
+    case.assertEqual(answered[0], [number], call)
+    case.assertEqual(answered[1:], ask(*before, *everything())[len(before):], call)
 
 
 def done(answer):
@@ -97,3 +142,21 @@ def draw(seed, tick_number, thing, count, sides):
         if number < limit:
             return number % sides
     return raw(seed, tick_number, thing, count, 64) % sides
+
+
+def shuffled(seed, tick_number, thing, n):
+    row = list(range(n))
+    for i in reversed(range(1, n)):
+        j = draw(seed, tick_number, thing, i, i + 1)
+        row[i], row[j] = row[j], row[i]
+    return row
+
+
+def picked(seed, tick_number, thing, weights):
+    x = draw(seed, tick_number, thing, 0, sum(weights))
+    return [place for place in range(len(weights)) if sum(weights[:place + 1]) > x][0]
+
+
+def bound_by_words(budget, quantum, weight, cost, weights):
+    r = (cost + weight * quantum - 1) // (weight * quantum) + 2
+    return (r * quantum * sum(weights) + len(weights) * 10000 + 100 * quantum + cost) // (budget - 10000) + 1

@@ -58,6 +58,68 @@ class CodeTest(unittest.TestCase):
             self.assertEqual(node.level, 0)
             self.assertRegex(node.module, r"^turnshares\.[a-z]+$")
 
+    def test_imports_are_from_the_file_that_defines_the_name(self):
+        drawn = {}
+        for path, tree in TREES:
+            drawn[path.stem] = [node.module.split(".")[1] for node in tree.body if isinstance(node, ast.ImportFrom)]
+            for node in tree.body:
+                if isinstance(node, ast.ImportFrom):
+                    defined = names_at_the_top(dict(TREES)[PACKAGE / (node.module.split(".")[1] + ".py")])
+                    self.assertLessEqual({alias.name for alias in node.names}, set(defined))
+                    self.assertEqual({alias.asname for alias in node.names}, {None})
+        # No file draws from itself, in whatever many steps.
+        while drawn:
+            ready = [name for name in drawn if not any(other in drawn for other in drawn[name])]
+            self.assertNotEqual(ready, [])
+            drawn = {name: drawn[name] for name in drawn if name not in ready}
+
+    def test_tops_of_files(self):
+        for path, tree in TREES:
+            self.assertIsNotNone(ast.get_docstring(tree), path)
+            for node in tree.body[1:]:
+                self.assertIsInstance(node, (ast.ImportFrom, ast.FunctionDef, ast.ClassDef, ast.Assign), path)
+                if isinstance(node, ast.Assign):
+                    self.assertEqual(set(map(kind_of, ast.walk(node.value))) -
+                                     {"Constant", "Tuple", "Name", "Load", "UnaryOp", "USub"}, set(), path)
+            names = names_at_the_top(tree)
+            self.assertEqual(len(names), len(set(names)), path)
+
+    def test_locals_are_not_called_like_imports_or_classes(self):
+        for path, tree in TREES:
+            taken = {alias.name for node in ast.walk(tree) if isinstance(node, ast.ImportFrom) for alias in node.names}
+            taken |= {node.name for node in ast.walk(tree) if isinstance(node, ast.ClassDef)}
+            used = {node.arg for node in ast.walk(tree) if isinstance(node, ast.arg)}
+            names = [node for node in ast.walk(tree) if isinstance(node, ast.Name)]
+            used |= {node.id for node in names if isinstance(node.ctx, ast.Store)}
+            self.assertEqual(taken & used, set(), path)
+
+    def test_statements_and_expressions_are_plain(self):
+        for node in all_nodes(ast.Assign):
+            self.assertEqual(len(node.targets), 1)
+            self.assertNotIsInstance(node.targets[0], (ast.Tuple, ast.List))
+        for node in all_nodes((ast.For, ast.While)):
+            self.assertEqual(node.orelse, [])
+        for node in all_nodes(ast.ListComp):
+            self.assertEqual(len(node.generators), 1)
+            self.assertLessEqual(len(node.generators[0].ifs), 1)
+        for node in all_nodes(ast.Compare):
+            for operator, other in zip(node.ops, node.comparators):
+                if isinstance(operator, (ast.Is, ast.IsNot)):
+                    self.assertIn(ast.unparse(other), ("None", "True", "False"))
+        for node in all_nodes(ast.Constant):
+            self.assertIsInstance(node.value, (int, str, type(None)))
+        for node in all_nodes(ast.FunctionDef):
+            annotations = [arg.annotation for arg in node.args.args] + [node.returns]
+            self.assertEqual(set(annotations), {None}, node.name)
+        self.assertEqual(all_nodes((ast.Set, ast.Pow)), [])
+
+    def test_what_is_walked_on_the_spot(self):
+        walked = [node.iter for node in all_nodes((ast.For, ast.comprehension))]
+        walked += [node.args[0] for node in all_nodes(ast.Call) if isinstance(node.func, ast.Name) and node.args]
+        for node in all_nodes(ast.Call):
+            if isinstance(node.func, ast.Name) and node.func.id in ("zip", "enumerate", "reversed", "range"):
+                self.assertIn(node, walked)
+
     def test_functions_are_plain(self):
         for node in all_nodes(ast.FunctionDef):
             self.assertEqual((node.decorator_list, node.args.vararg, node.args.kwarg, node.args.kwonlyargs),
@@ -82,6 +144,12 @@ class CodeTest(unittest.TestCase):
         self.assertEqual(kept & own, set())
         for kind in (str, int, list, dict, set, bytes, tuple):
             self.assertEqual((own | kept) & set(dir(kind)) - {"__init__"}, set())
+
+
+def names_at_the_top(tree):
+    names = [node.name for node in tree.body if isinstance(node, (ast.FunctionDef, ast.ClassDef))]
+    names += [alias.name for node in tree.body if isinstance(node, ast.ImportFrom) for alias in node.names]
+    return names + [node.targets[0].id for node in tree.body if isinstance(node, ast.Assign)]
 
 
 def kind_of(node):

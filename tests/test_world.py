@@ -58,11 +58,6 @@ class AnswersTest(unittest.TestCase):
         self.assertEqual(answers(BUSY), first)
         self.assertEqual(answers([7]), [1, 0])
 
-    def test_later_calls_are_not_answered_wrongly(self):
-        for call in range(8, 16):
-            with self.assertRaises(NotImplementedError):
-                answers([call, 1, 1, 1, 1])
-
 
 if __name__ == "__main__":
     unittest.main()

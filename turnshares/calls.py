@@ -1,10 +1,12 @@
 """What each call answers. All refusals are looked for, from -1 downwards, before anything is changed."""
 
+from turnshares.chance import draw, picked, raw_number, shuffled
 from turnshares.turns import Player
 
 NOT_IN_RANGE = -1
 NOT_THERE = -2
 THERE_ALREADY = -3
+NOTHING = -4
 NO_PLACE = -5
 
 SEEDS = (0, 1000000000000000000)
@@ -16,10 +18,16 @@ THINGS = (0, 1000000)
 COSTS = (1, 10000)
 SIDES = (1, 1000000000)
 TICKS_AT_ONCE = (1, 20)
+TICKS = (0, 1000000000)
+COUNTS = (0, 1000000)
+SHUFFLED = (0, 64)
+ROW_LENGTHS = (1, 32)
+ROW_WEIGHTS = (0, 1000000)
 
 MOST_PLAYERS = 8
 MOST_JOBS = 64
 LAST_TICK = 1000000000
+HALF_WORD = 4294967296
 
 
 def all_within(numbers, ranges):
@@ -80,9 +88,7 @@ def answer_tick(session, numbers):
         return [NOT_IN_RANGE]
     if session.tick + numbers[0] > LAST_TICK:
         return [NO_PLACE]
-    row = []
-    for passed in range(numbers[0]):
-        row.extend(session.run_tick())
+    row = session.run_ticks(numbers[0])
     return [0, session.tick] + row
 
 
@@ -103,6 +109,68 @@ def answer_players(session, numbers):
     return row
 
 
+def answer_weigh(session, numbers):
+    if not all_within(numbers[1:], (WEIGHTS,)):
+        return [NOT_IN_RANGE]
+    player = session.find_player(numbers[0])
+    if player is None:
+        return [NOT_THERE]
+    player.weight = numbers[1]
+    return [0]
+
+
+def answer_draw(session, numbers):
+    if not all_within(numbers, (TICKS, THINGS, COUNTS, SIDES)):
+        return [NOT_IN_RANGE]
+    return [0, draw(session.seed, numbers[0], numbers[1], numbers[2], numbers[3])]
+
+
+def answer_raw(session, numbers):
+    if not all_within(numbers, (TICKS, THINGS, COUNTS)):
+        return [NOT_IN_RANGE]
+    raw = raw_number(session.seed, numbers[0], numbers[1], numbers[2], 0)
+    # In two parts: a raw number may be greater than any number that is told in a call.
+    return [0, raw // HALF_WORD, raw % HALF_WORD]
+
+
+def answer_shuffle(session, numbers):
+    if not all_within(numbers, (TICKS, THINGS, SHUFFLED)):
+        return [NOT_IN_RANGE]
+    return [0] + shuffled(session.seed, numbers[0], numbers[1], numbers[2])
+
+
+def answer_pick(session, numbers):
+    weights = numbers[3:]
+    if not all_within(numbers[:3], (TICKS, THINGS, ROW_LENGTHS)):
+        return [NOT_IN_RANGE]
+    if not all_within(weights, [ROW_WEIGHTS for weight in weights]):
+        return [NOT_IN_RANGE]
+    if sum(weights) == 0:
+        return [NOTHING]
+    return [0, picked(session.seed, numbers[0], numbers[1], weights)]
+
+
+def answer_bound(session, numbers):
+    player = session.find_player(numbers[0])
+    if player is None:
+        return [NOT_THERE]
+    if not player.jobs:
+        return [NOTHING]
+    return [0, session.bound_of(player)]
+
+
+def answer_try(session, numbers):
+    if not all_within(numbers, (TICKS_AT_ONCE,)):
+        return [NOT_IN_RANGE]
+    return [0] + session.copied().run_ticks(numbers[0])
+
+
+def answer_state(session, numbers):
+    begun = 1 if session.begun else 0
+    row = [0, session.tick, session.budget, session.quantum, len(session.players)]
+    return row + [session.turn, begun, session.spent, session.next_job]
+
+
 ANSWERS = (
     answer_begin,
     answer_join,
@@ -112,6 +180,14 @@ ANSWERS = (
     answer_tick,
     answer_queue,
     answer_players,
+    answer_weigh,
+    answer_draw,
+    answer_raw,
+    answer_shuffle,
+    answer_pick,
+    answer_bound,
+    answer_try,
+    answer_state,
 )
 
 

@@ -31,3 +31,23 @@ def draw(seed, tick, thing, count, sides):
         if raw < limit:
             return raw % sides
     return raw_number(seed, tick, thing, count, LAST_TRY) % sides
+
+
+def shuffled(seed, tick, thing, size):
+    row = list(range(size))
+    for place in range(size - 1, 0, -1):
+        other = draw(seed, tick, thing, place, place + 1)
+        moved = row[place]
+        row[place] = row[other]
+        row[other] = moved
+    return row
+
+
+def picked(seed, tick, thing, weights):
+    left = draw(seed, tick, thing, 0, sum(weights))
+    place = 0
+    # What is left is below all weights from here on together, so that the row's end is never passed.
+    while left >= weights[place]:
+        left -= weights[place]
+        place += 1
+    return place

@@ -2,6 +2,9 @@
 
 from turnshares.chance import draw
 
+GREATEST_COST = 10000
+GREATEST_WEIGHT = 100
+
 
 class Job:
     def __init__(self, number, thing, cost, sides):
@@ -26,6 +29,14 @@ class Player:
             self.saved = 0
         return job
 
+    def copied(self):
+        other = Player(self.number, self.weight)
+        # A job never changes, so that both may hold the same ones.
+        other.jobs = list(self.jobs)
+        other.saved = self.saved
+        other.done = self.done
+        return other
+
 
 class Session:
     def __init__(self):
@@ -41,6 +52,17 @@ class Session:
         self.turn = 0
         self.begun = False
         self.spent = 0
+
+    def copied(self):
+        other = Session()
+        other.begin(self.seed, self.budget, self.quantum)
+        other.players = [player.copied() for player in self.players]
+        other.tick = self.tick
+        other.next_job = self.next_job
+        other.turn = self.turn
+        other.begun = self.begun
+        other.spent = self.spent
+        return other
 
     def place_of(self, number):
         for place, player in enumerate(self.players):
@@ -85,13 +107,21 @@ class Session:
     def pass_turn(self):
         self.give_turn(self.turn + 1)
 
+    def run_ticks(self, ticks):
+        """Gives back the rows of these ticks as one."""
+        row = []
+        for passed in range(ticks):
+            row.extend(self.run_tick())
+        return row
+
     def run_tick(self):
         """Gives back one row: of each job done, in order, its number, its player and what it drew."""
         self.tick += 1
         self.spent = 0
         draws_made = {}
         row = []
-        while self.count_jobs() > 0:
+        waiting = self.count_jobs()
+        while waiting > 0:
             player = self.players[self.turn]
             if not player.jobs:
                 player.saved = 0
@@ -105,6 +135,7 @@ class Session:
                 break
             else:
                 row.extend(self.do_job(player, draws_made))
+                waiting -= 1
         return row
 
     def do_job(self, player, draws_made):
@@ -118,3 +149,14 @@ class Session:
         draws_made[job.thing] = count + 1
         drawn = draw(self.seed, self.tick, job.thing, count, job.sides)
         return [job.number, player.number, drawn]
+
+    def bound_of(self, player):
+        """Tells a number of ticks behind which the player's first job is done, whatever the others have."""
+        cost = player.jobs[0].cost
+        share = player.weight * self.quantum
+        rounds = (cost + share - 1) // share + 2
+        weights = sum([each.weight for each in self.players])
+        # Between turns less than one job's cost is saved up, and one turn, of any weight, may have begun.
+        saved = len(self.players) * GREATEST_COST + GREATEST_WEIGHT * self.quantum
+        # A tick that is over while a job waits has left less than one job's cost of its budget.
+        return (rounds * self.quantum * weights + saved + cost) // (self.budget - GREATEST_COST) + 1

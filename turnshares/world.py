@@ -3,15 +3,15 @@
 from turnshares.calls import answer
 from turnshares.turns import Session
 
-# How many numbers stand behind the number of each call.
-LENGTHS = (3, 2, 1, 4, 1, 1, 1, 0)
+# How many numbers stand behind the number of each call; of pick the row's length is the last of them.
+LENGTHS = (3, 2, 1, 4, 1, 1, 1, 0, 2, 4, 3, 3, 3, 1, 1, 0)
+PICK = 12
 
 
 def end_of_call(calls, start):
     call = calls[start]
-    if call >= len(LENGTHS):
-        raise NotImplementedError(f"call {call} is not built yet")
-    return start + 1 + LENGTHS[call]
+    end = start + 1 + LENGTHS[call]
+    return end + calls[end - 1] if call == PICK else end
 
 
 def answers(calls):
